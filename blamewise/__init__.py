@@ -1,0 +1,1 @@
+"""Blamewise: told kinds and untold ones, and who is to blame."""
