@@ -1,0 +1,1 @@
+"""What the runs need of values, for themselves."""
