@@ -2,6 +2,7 @@
 
 from blamewise.kinds import depth
 from blamewise.looker import looked
+from blamewise.looks import made
 from blamewise.trees import parts, places, with_parts
 
 
@@ -16,6 +17,14 @@ def looks_of(tree):
 def deepest(tree):
     """The greatest depth of a kind at a look, 0 where there is no look."""
     return max([max(depth(kind), depth(other)) for place, kind, other in looks_of(tree)], default=0)
+
+
+def made_looks(tree):
+    """The looks of the program, made, by their places."""
+    looks = {}
+    for place, kind, other in looks_of(tree):
+        looks[place] = made(kind, other, place)
+    return looks
 
 
 def ready(tree):

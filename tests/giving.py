@@ -3,8 +3,7 @@
 A value is a tuple (tag or None, guards, raw). A raw thing is a tuple of its head and what is
 in it: a number, a truth, the things of a row or a pair, the one value that a function gives."""
 
-import random
-
+from tests.counting import Counting
 from tests.many_kinds import TRUTH, UNTOLD, WHOLE
 
 GROUNDS = [WHOLE, TRUTH, ("to", UNTOLD, UNTOLD), ("row", UNTOLD), ("pair", UNTOLD, UNTOLD)]
@@ -14,17 +13,17 @@ class Blamed(Exception):
     """A look failed: with its ask and the value's tag."""
 
 
-def value_of(kind, chance):
+def value_of(kind, rule):
     """Some value of this kind; what is untold in it bears tags with labels of its own."""
     if kind == UNTOLD:
-        ground = chance.choice(GROUNDS[:2] + GROUNDS)
-        return ((ground, (8000 + chance.randrange(1000), "in", ())), [], value_of(ground, chance)[2])
+        ground = rule.one_of(GROUNDS[:2] + GROUNDS)
+        return ((ground, (8000 + rule.below(1000), "in", ())), [], value_of(ground, rule)[2])
     if kind == WHOLE:
-        return (None, [], ("whole", chance.randrange(10)))
+        return (None, [], ("whole", rule.below(10)))
     if kind == TRUTH:
-        return (None, [], ("truth", chance.random() < 0.5))
+        return (None, [], ("truth", rule.happens(50)))
     things = {"to": kind[2:], "row": kind[1:] * 2, "pair": kind[1:]}[kind[0]]
-    return (None, [], (kind[0], [value_of(part, chance) for part in things]))
+    return (None, [], (kind[0], [value_of(part, rule) for part in things]))
 
 
 def given(value, looks):
@@ -60,6 +59,6 @@ def seen(value, looks, kind, way="way"):
     found = [seen(thing, [guard[k] for guard in guards], ground and ground[k], way + f" {k}")
              for k, thing in zip(numbers, raw[1])]
     if raw[0] == "to" and ground is not None:
-        argument = value_of(ground[1], random.Random(way))
+        argument = value_of(ground[1], Counting(sum(ord(sign) * 31 ** place for place, sign in enumerate(way))))
         found.append(seen(argument, [guard[1] for guard in reversed(guards)], None, way + " 1"))
     return (tag, raw[0], found)

@@ -2,9 +2,13 @@
 
 import itertools
 
+# The grounds of all kinds.
 WHOLE = ("whole",)
 TRUTH = ("truth",)
 UNTOLD = ("?",)
+TO = ("to", UNTOLD, UNTOLD)
+ROW = ("row", UNTOLD)
+PAIR = ("pair", UNTOLD, UNTOLD)
 
 LEAVES = [WHOLE, TRUTH, UNTOLD]
 STEPS = ["arg", "res", "item", "one", "two"]

@@ -1,10 +1,9 @@
 """Many programs, the same ones each time: wholly told ones that are taken, looser ones, and wrong ones."""
 
-import random
-
 from blamewise.errors import NoText
 from blamewise.texts import read, show_kind
-from blamewise.trees import parts, with_parts, with_written, written
+from blamewise.trees import parts, places, with_parts, with_written, written
+from tests.counting import Counting
 from tests.many_kinds import TRUTH, UNTOLD, WHOLE
 
 NAMES = ["a", "b", "c", "let", "whole"]
@@ -18,13 +17,13 @@ class Maker:
     """Makes texts of nodes of a wanted kind, wholly told."""
 
     def __init__(self, seed):
-        self.chance = random.Random(seed)
+        self.rule = Counting(seed)
 
     def kind(self, most):
         """A wholly told kind of at most this depth."""
-        head = self.chance.choice(["whole", "truth", "to", "row", "pair"]) if most > 1 else "whole"
+        head = self.rule.one_of(["whole", "truth", "to", "row", "pair"]) if most > 1 else "whole"
         if most == 1 or head in ("whole", "truth"):
-            return self.chance.choice([WHOLE, TRUTH])
+            return self.rule.one_of([WHOLE, TRUTH])
         if head == "row":
             return ("row", self.kind(most - 1))
         return (head, self.kind(most - 1), self.kind(most - 1))
@@ -32,27 +31,27 @@ class Maker:
     def node(self, kind, bound, level):
         """A node of this kind with at most this nest; bound has the kinds of the names."""
         names = [name for name, its_kind in bound.items() if its_kind == kind]
-        if names and self.chance.random() < 0.4:
-            return self.chance.choice(names)
-        if level > depth_of(kind) + 1 and self.chance.random() < 0.75:
+        if names and self.rule.happens(40):
+            return self.rule.one_of(names)
+        if level > depth_of(kind) + 1 and self.rule.happens(75):
             return self.taken_out(kind, bound, level - 1)
         return self.put_together(kind, bound, level - 1)
 
     def put_together(self, kind, bound, level):
         if kind == WHOLE:
-            return self.chance.choice(["(given 0)", "(given 7)", str(self.chance.randrange(-9, 9))])
+            return self.rule.one_of(["(given 0)", "(given 7)", str(self.rule.below(18) - 9)])
         if kind == TRUTH:
-            return self.chance.choice(["yes", "no"])
+            return self.rule.one_of(["yes", "no"])
         if kind[0] == "to":
             return self.function(kind, bound, level)
         if kind[0] == "pair":
             return f"(pair {self.node(kind[1], bound, level)} {self.node(kind[2], bound, level)})"
-        things = [self.node(kind[1], bound, level) for _ in range(self.chance.randrange(5))]
+        things = [self.node(kind[1], bound, level) for _ in range(self.rule.below(5))]
         return "(" + " ".join(["row", show_kind(kind[1])] + things) + ")"
 
     def function(self, kind, bound, level):
-        name, own = self.chance.choice(NAMES), self.chance.choice(NAMES)
-        if self.chance.random() < 0.5:
+        name, own = self.rule.one_of(NAMES), self.rule.one_of(NAMES)
+        if self.rule.happens(50):
             inner = self.node(kind[2], {**bound, name: kind[1]}, level)
             return f"(fn {name} {show_kind(kind[1])} {inner})"
         inner = self.node(kind[2], {**bound, own: kind, name: kind[1]}, level)
@@ -60,14 +59,14 @@ class Maker:
 
     def taken_out(self, kind, bound, level):
         other = self.kind(min(2, level - 1))
-        word = self.chance.choice(["call", "let", "if", "at", "one", "two", "as", "do", "do", "size"])
+        word = self.rule.one_of(["call", "let", "if", "at", "one", "two", "as", "do", "do", "size"])
         if word == "do" and kind in (WHOLE, TRUTH):
-            sign = self.chance.choice("+-*" if kind == WHOLE else "<=")
+            sign = self.rule.one_of("+-*" if kind == WHOLE else "<=")
             return f"({sign} {self.node(WHOLE, bound, level)} {self.node(WHOLE, bound, level)})"
         if word == "size" and kind == WHOLE:
             return f"(size {self.node(('row', other), bound, level)})"
         if word == "let":
-            name = self.chance.choice(NAMES)
+            name = self.rule.one_of(NAMES)
             first = self.node(other, bound, level)
             return f"(let {name} {first} {self.node(kind, {**bound, name: other}, level)})"
         if word == "if":
@@ -86,22 +85,52 @@ class Maker:
         return f"({word} {self.node(pair, bound, level)})"
 
 
-def told_programs(many, seed=1, level=6):
-    """This many wholly told programs that the looker must take."""
-    maker = Maker(seed)
+class Liar(Maker):
+    """Makes nodes some of which are of another kind than they are taken for, by way of ?."""
+
+    def node(self, kind, bound, level):
+        if level < 4 or not self.rule.happens(20):
+            return super().node(kind, bound, level)
+        other = self.other_kind(kind)
+        if depth_of(other) > 4:
+            other = kind
+        return f"(as {show_kind(kind)} (as ? {super().node(other, bound, level - 2)}))"
+
+    def other_kind(self, kind):
+        """Another kind, or the same one, mostly with the same head."""
+        if len(kind) == 1 or self.rule.happens(15):
+            return self.kind(2)
+        number = 1 + self.rule.below(len(kind) - 1)
+        return kind[:number] + (self.other_kind(kind[number]),) + kind[number + 1:]
+
+
+def drawn_programs(maker, many, level, most_nodes=120):
+    """This many programs of the maker's."""
     found = []
     while len(found) < many:
         try:
-            found.append(read(maker.node(maker.kind(3), {}, level)))
+            tree = read(maker.node(maker.kind(3), {}, level))
         except NoText:
             continue
+        if len(places(tree)) <= most_nodes:
+            found.append(tree)
     return found
 
 
-def looser_kind(chance, kind):
-    if chance.random() < 0.25:
+def told_programs(many, seed=1, level=6):
+    """This many wholly told programs that the looker must take."""
+    return drawn_programs(Maker(seed), many, level)
+
+
+def lying_programs(many, seed=1, level=8, most_nodes=120):
+    """This many programs that the looker must take, of which many end in a blame."""
+    return drawn_programs(Liar(seed), many, level, most_nodes)
+
+
+def looser_kind(rule, kind):
+    if rule.happens(25):
         return UNTOLD
-    return kind[:1] + tuple([looser_kind(chance, part) for part in kind[1:]])
+    return kind[:1] + tuple([looser_kind(rule, part) for part in kind[1:]])
 
 
 def changed_kinds(tree, change):
@@ -112,8 +141,8 @@ def changed_kinds(tree, change):
 
 def looser_program(tree, seed):
     """The program with some parts of its written kinds put untold."""
-    chance = random.Random(seed)
-    return changed_kinds(tree, lambda kind: looser_kind(chance, kind))
+    rule = Counting(seed)
+    return changed_kinds(tree, lambda kind: looser_kind(rule, kind))
 
 
 def other_program(tree, seed):
@@ -121,7 +150,7 @@ def other_program(tree, seed):
     maker = Maker(seed)
 
     def change(kind):
-        return looser_kind(maker.chance, maker.kind(3)) if maker.chance.random() < 0.3 else kind
+        return looser_kind(maker.rule, maker.kind(3)) if maker.rule.happens(30) else kind
     return changed_kinds(tree, change)
 
 

@@ -1,7 +1,6 @@
 """Looks laid together."""
 
 import itertools
-import random
 import unittest
 
 from blamewise.kinds import depth
@@ -9,13 +8,11 @@ from blamewise.laying import laid
 from blamewise.looks import STILL, allowed, height, made, weight
 from blamewise.meets import same
 from blamewise.texts import read_kind
+from tests.counting import Counting
 from tests.giving import seen, value_of
-from tests.many_kinds import DEEP_KINDS, KINDS_2, TRUTH, UNTOLD, WHOLE, loosenings
+from tests.many_kinds import DEEP_KINDS, KINDS_2, PAIR, ROW, TO, TRUTH, UNTOLD, WHOLE, loosenings
 
 SAME = ("same",)
-TO = ("to", UNTOLD, UNTOLD)
-ROW = ("row", UNTOLD)
-PAIR = ("pair", UNTOLD, UNTOLD)
 
 A = (1, "in", ())
 B = (2, "out", ("arg",))
@@ -122,22 +119,22 @@ LAID = [
 UP_TO = {most: [kind for kind in KINDS_2 + DEEP_KINDS if depth(kind) <= most] for most in range(1, 7)}
 
 
-def next_kind(kind, chance, most):
+def next_kind(kind, rule, most):
     """Some kind of at most this depth that is the same but for what is untold."""
-    if chance.random() < 0.12:
+    if rule.happens(12):
         return UNTOLD
     if kind == UNTOLD:
-        return chance.choice(UP_TO[max(most, 1)])
-    return kind[:1] + tuple([next_kind(part, chance, most - 1) for part in kind[1:]])
+        return rule.one_of(UP_TO[max(most, 1)])
+    return kind[:1] + tuple([next_kind(part, rule, most - 1) for part in kind[1:]])
 
 
 def chains(many, length, most, seed):
     """Chains of kinds, each the same as its neighbours but for what is untold."""
-    chance = random.Random(seed)
+    rule = Counting(seed)
     for _ in range(many):
-        chain = [next_kind(UNTOLD, chance, most)]
+        chain = [next_kind(UNTOLD, rule, most)]
         while len(chain) < length:
-            chain.append(next_kind(chain[-1], chance, most))
+            chain.append(next_kind(chain[-1], rule, most))
         yield chain
 
 
@@ -253,13 +250,13 @@ class GivenTest(unittest.TestCase):
     """A value given to looks one by one, and to all of them laid together, is seen to be the same."""
 
     def test_values_given_to_chains_of_looks(self):
-        chance = random.Random(9)
+        rule = Counting(9)
         blamed = 0
         for length, most, seed in ((3, 3, 10), (4, 4, 11), (6, 3, 12)):
             for chain in chains(1000, length, most, seed):
                 looks = looks_along(chain)
                 for _ in range(3):
-                    value = value_of(chain[0], chance)
+                    value = value_of(chain[0], rule)
                     found = seen(value, looks, chain[-1])
                     self.assertEqual(seen(value, [laid_in_turn(looks)], chain[-1]), found)
                     blamed += "blame" in str(found)
