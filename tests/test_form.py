@@ -27,6 +27,10 @@ NOT_USED = """register mro elements open input version_info with_traceback add_n
 NO_WORDS = """type typing typing_extensions enum Enum IntEnum StrEnum Flag IntFlag Generic Protocol ABC ABCMeta
     namedtuple NamedTuple TypedDict TYPE_CHECKING abstractmethod""".split()
 NO_PIECES = ["dataclass", "overload", "contextmanager"]
+WALKERS = ["list", "tuple", "dict", "sorted", "sum", "any", "all", "enumerate", "zip", "min", "max"]
+WALKED = ["zip", "enumerate", "reversed", "range", "items", "keys", "values"]
+KEYWORDS = {"sorted": ["key", "reverse"], "min": ["key", "default"], "max": ["key", "default"], "sum": ["start"],
+            "enumerate": ["start"], "zip": ["strict"]}
 TWO_UNDERSCORES = ["__init__", "__eq__", "__repr__", "__str__", "__len__"]
 
 
@@ -154,6 +158,37 @@ class FormTest(unittest.TestCase):
             for node in ast.walk(tree):
                 if isinstance(node, ast.Attribute):
                     self.assertIn(node.attr, METHODS + methods + values)
+
+    def test_walked_at_once(self):
+        for file, tree in TREES:
+            walked = [node.iter for node in ast.walk(tree) if isinstance(node, (ast.For, ast.comprehension))]
+            for node in ast.walk(tree):
+                if isinstance(node, ast.Call) and isinstance(node.func, ast.Name) and node.func.id in WALKERS:
+                    walked += node.args
+                if isinstance(node, ast.Call) and getattr(node.func, "attr", None) == "join":
+                    self.assertIsInstance(node.func.value, ast.Constant)
+                    walked += node.args
+            for node in ast.walk(tree):
+                if isinstance(node, ast.Call) and getattr(node.func, "id", getattr(node.func, "attr", None)) in WALKED:
+                    self.assertIn(node, walked, (file, node.lineno))
+
+    def test_raised_and_taken_by_name(self):
+        for file, tree in TREES:
+            for node in ast.walk(tree):
+                if isinstance(node, ast.Raise):
+                    self.assertIsInstance(node.exc, ast.Call, (file, node.lineno))
+                if isinstance(node, ast.ExceptHandler):
+                    taken = node.type.elts if isinstance(node.type, ast.Tuple) else [node.type]
+                    self.assertNotIn("Exception", [name.id for name in taken], (file, node.lineno))
+
+    def test_keywords(self):
+        for file, tree in TREES:
+            own = [node.name for _, other in TREES for node in ast.walk(other) if isinstance(node, ast.FunctionDef)]
+            for node in ast.walk(tree):
+                if isinstance(node, ast.Call) and node.keywords:
+                    name = getattr(node.func, "id", getattr(node.func, "attr", None))
+                    for keyword in node.keywords:
+                        self.assertTrue(name in own or keyword.arg in KEYWORDS.get(name, []), (file, node.lineno))
 
     def test_what_stands_at_the_top_is_only_read(self):
         for _, tree in TREES:
