@@ -2,7 +2,7 @@
 
 from blamewise.rows import thing_of
 from blamewise.trees import parts
-from blamewise.values import Ended, Value
+from blamewise.values import Ended, alone
 
 MOST_FIGURES = 40
 
@@ -25,12 +25,12 @@ def leaf_value(node, names, numbers):
     """The value of a node of which no part is gone through."""
     word = node[0]
     if word == "given":
-        return Value("whole", numbers[node[2]] if node[2] < len(numbers) else 0)
+        return alone("whole", numbers[node[2]] if node[2] < len(numbers) else 0)
     if word == "name":
         return names[node[2]]
     if word in ("fn", "self"):
-        return Value("to", (node, names))
-    return Value(word, node[2])
+        return alone("to", (node, names))
+    return alone(word, node[2])
 
 
 def need_head(node, number, value):
@@ -46,11 +46,11 @@ def deed(node, found, giver):
     if word == "do":
         return reckoned(node, found[0].held, found[1].held)
     if word in ("row", "pair"):
-        return Value(word, tuple(found))
+        return alone(word, tuple(found))
     if word == "at":
         return thing_at(node, found[0], found[1].held, giver)
     if word == "size":
-        return Value("whole", len(found[0].held))
+        return alone("whole", len(found[0].held))
     if word == "one":
         return thing_of(found[0], 0, giver)
     if word == "two":
@@ -62,13 +62,13 @@ def reckoned(node, number, other):
     """The value of a do with these two numbers."""
     sign = node[2]
     if sign == "<":
-        return Value("truth", number < other)
+        return alone("truth", number < other)
     if sign == "=":
-        return Value("truth", number == other)
+        return alone("truth", number == other)
     result = reckoned_number(sign, number, other)
     if len(str(abs(result))) > MOST_FIGURES:
         raise Ended(("fault", node[1], "great"))
-    return Value("whole", result)
+    return alone("whole", result)
 
 
 def reckoned_number(sign, number, other):
@@ -102,7 +102,7 @@ def names_in_call(function, argument):
         return names_with(names, node[2], argument)
     # The function by its own name is without what stands beside it; the argument
     # is bound last, so that it counts where both names are alike.
-    return names_with(names_with(names, node[2], Value("to", function.held)), node[3], argument)
+    return names_with(names_with(names, node[2], alone("to", function.held)), node[3], argument)
 
 
 def node_called(function):

@@ -17,7 +17,7 @@ class Value:
     The head is that of its kind. A number or a truth is held as it is, the things of a row or
     a pair as a tuple of values, a function as a tuple of its node and the names round it."""
 
-    def __init__(self, head, held, guards=(), tag=None):
+    def __init__(self, head, held, guards, tag):
         self.head = head
         self.held = held
         self.guards = guards
@@ -75,6 +75,11 @@ class Giver:
         outermost = value.guards[-1] if value.guards else None
         if outermost is not None or value.tag is not None:
             self.notes.append((len(value.guards), outermost, value.tag))
+
+
+def alone(head, held):
+    """The value with nothing beside it."""
+    return Value(head, held, (), None)
 
 
 def need_ground(tag, ask):

@@ -131,6 +131,20 @@ class FormTest(unittest.TestCase):
         elif isinstance(node, ast.Expr):
             self.assertIsInstance(node.value, (ast.Call, ast.Constant))
 
+    def test_defaults_are_plain_values(self):
+        for file, tree in TREES:
+            self.assertEqual([ast.unparse(default) for default in defaults_not_plain(tree)], [], file)
+
+    def test_which_defaults_are_plain(self):
+        for default in ["0", "7", "-7", "'some'", "''", "True", "False", "None"]:
+            for text in with_default(default):
+                self.assertEqual(defaults_not_plain(ast.parse(text)), [], text)
+        for default in ["()", "(1, 2)", "[]", "{}", "{1}", "STILL", "len", "1.5", "-1.5", "2j", "b'some'", "...",
+                        "-True", "not True", "1 + 1", "f'{STILL}'", "made()", "STILL[0]", "lambda: 1"]:
+            for text in with_default(default):
+                found = [ast.unparse(one) for one in defaults_not_plain(ast.parse(text))]
+                self.assertEqual(found, [ast.unparse(ast.parse(default))], text)
+
     def test_names(self):
         for _, tree in TREES:
             imported = [name.name for node in tree.body if isinstance(node, ast.ImportFrom) for name in node.names]
@@ -196,6 +210,34 @@ class FormTest(unittest.TestCase):
             for node in ast.walk(tree):
                 if isinstance(node, (ast.Subscript, ast.Attribute)) and not isinstance(node.ctx, ast.Load):
                     self.assertNotIn(getattr(node.value, "id", None), kept)
+
+
+def defaults_not_plain(tree):
+    """The defaults of all functions, methods and lambdas that are no whole number, text, True, False or None."""
+    found = []
+    for node in ast.walk(tree):
+        if isinstance(node, ast.arguments):
+            # A parameter behind a bare * that has no default stands there as None.
+            defaults = node.defaults + [default for default in node.kw_defaults if default is not None]
+            found += [default for default in defaults if not is_plain_default(default)]
+    return found
+
+
+def is_plain_default(default):
+    """Whether a default is a whole number, a text, True, False or None, written out."""
+    if isinstance(default, ast.UnaryOp) and isinstance(default.op, ast.USub):
+        return isinstance(default.operand, ast.Constant) and type(default.operand.value) is int
+    return isinstance(default, ast.Constant) and isinstance(default.value, (int, str, type(None)))
+
+
+def with_default(default):
+    """Texts of files in each of which one parameter has this default."""
+    return [f"def first(a, b={default}, c=1):\n    return a\n",
+            f"class Some:\n    def __init__(self, a={default}):\n        self.a = a\n",
+            f"class Some:\n    def first(self, a, b={default}):\n        return a\n",
+            f"def first():\n    def inner(a={default}):\n        return a\n    return inner()\n",
+            f"def first(xs):\n    return sorted(xs, key=lambda a, b={default}: a)\n",
+            f"def first(*, a, b={default}):\n    return a\n"]
 
 
 def bound_at_top(tree):
